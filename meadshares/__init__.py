@@ -1,0 +1,1 @@
+"""Meadshares: a mead parted among those who have rights in it."""

@@ -1,0 +1,162 @@
+"""The form of the package's own files: the rules of the language part that can be read off."""
+
+import ast
+import builtins
+import re
+import unittest
+from pathlib import Path
+
+PACKAGE = Path(__file__).resolve().parent.parent / "meadshares"
+FILES = sorted(PACKAGE.rglob("*.py"))
+
+STATEMENTS = (
+    ast.FunctionDef, ast.ClassDef, ast.ImportFrom, ast.Assign, ast.AugAssign, ast.If, ast.While, ast.For, ast.Return,
+    ast.Break, ast.Continue, ast.Pass, ast.Raise, ast.Try, ast.Expr, ast.Assert, ast.Delete,
+)
+EXPRESSIONS = (
+    ast.Constant, ast.Name, ast.Attribute, ast.Subscript, ast.Slice, ast.Call, ast.BinOp, ast.UnaryOp, ast.BoolOp,
+    ast.Compare, ast.IfExp, ast.List, ast.Tuple, ast.Dict, ast.Set, ast.ListComp, ast.DictComp, ast.SetComp,
+    ast.JoinedStr, ast.FormattedValue, ast.Lambda, ast.Starred,
+)
+PYTHONS_OWN = set("""
+    len range enumerate zip min max sum abs sorted reversed int str bool bytes list tuple dict set isinstance ord repr
+    any all divmod ValueError KeyError IndexError LookupError ZeroDivisionError StopIteration
+""".split())
+METHODS = set("""
+    append clear copy count endswith extend find get index insert isalnum isalpha isdigit islower isspace isupper items
+    join keys ljust lower lstrip partition pop remove replace reverse rfind rjust rpartition rsplit rstrip setdefault
+    split splitlines startswith strip update upper values zfill bit_length sort add discard
+""".split())
+TWO_UNDERSCORES = ("__init__", "__eq__", "__repr__", "__str__", "__len__")
+WORDS = re.compile(
+    r"\b(type|typing|typing_extensions|enum|Enum|IntEnum|StrEnum|Flag|IntFlag|Generic|Protocol|ABC|ABCMeta|namedtuple"
+    r"|NamedTuple|TypedDict|TYPE_CHECKING|abstractmethod)\b|dataclass|overload|contextmanager"
+)
+
+
+def faults_of_text(text):
+    lines = text.split("\n")
+    faults = [f"row {at}: over 120 signs" for at, line in enumerate(lines, 1) if len(line) > 120]
+    faults += [f"row {at}: a word that stands nowhere" for at, line in enumerate(lines, 1) if WORDS.search(line)]
+    faults += [f"sign {sign!r}" for sign in sorted(set(text)) if sign != "\n" and not " " <= sign <= "~"]
+    return faults + (["over 400 rows"] if len(lines) > 401 else [])
+
+
+def is_top_row(row):
+    if isinstance(row, ast.Expr):
+        return isinstance(row.value, ast.Constant) and isinstance(row.value.value, str)
+    return isinstance(row, (ast.ImportFrom, ast.FunctionDef, ast.ClassDef, ast.Assign))
+
+
+def names_bound_at_top(tree):
+    names = []
+    for row in tree.body:
+        if isinstance(row, ast.ImportFrom):
+            names += [drawn.asname or drawn.name for drawn in row.names]
+        elif isinstance(row, (ast.FunctionDef, ast.ClassDef)):
+            names.append(row.name)
+        elif isinstance(row, ast.Assign):
+            names += [name.id for name in ast.walk(row) if isinstance(name, ast.Name)
+                      and isinstance(name.ctx, ast.Store)]
+    return names
+
+
+def fault_of_def(node):
+    handed = node.args
+    if handed.vararg or handed.kwarg or handed.posonlyargs:
+        return "parameters that aren't plain"
+    if node.decorator_list:
+        return "a decorator"
+    if node.end_lineno - node.lineno + 1 > 40:
+        return "over 40 rows"
+    if node.name.startswith("_") and node.name not in TWO_UNDERSCORES:
+        return "a name with an underscore ahead"
+    return None
+
+
+def fault_of_name(node):
+    plain = re.fullmatch("[A-Za-z][A-Za-z0-9_]*", node.id)
+    if not plain or isinstance(node.ctx, ast.Store) and node.id in dir(builtins):
+        return f"the name {node.id}"
+    if node.id in dir(builtins) and node.id not in PYTHONS_OWN:
+        return f"Python's own {node.id}"
+    return None
+
+
+def fault_of(node, methods):
+    """What is wrong with one row or expression, None where nothing is."""
+    if isinstance(node, ast.stmt) and not isinstance(node, STATEMENTS):
+        return "a row of another form"
+    if isinstance(node, ast.expr) and not isinstance(node, EXPRESSIONS):
+        return "an expression of another form"
+    if isinstance(node, ast.FunctionDef):
+        return fault_of_def(node)
+    if isinstance(node, ast.ClassDef):
+        rows = [row for row in node.body if not isinstance(row, (ast.FunctionDef, ast.Expr))]
+        return "a class of another form" if rows or node.decorator_list or len(node.bases) > 1 else None
+    if isinstance(node, ast.ImportFrom):
+        plain = node.level == 0 and (node.module or "").startswith("meadshares.")
+        return None if plain and all(drawn.name != "*" for drawn in node.names) else "an import of another form"
+    if isinstance(node, (ast.For, ast.While)) and node.orelse:
+        return "an else behind a loop"
+    if isinstance(node, ast.Name):
+        return fault_of_name(node)
+    if isinstance(node, ast.arg) and (node.arg in dir(builtins) or node.arg.startswith("_")):
+        return f"the parameter {node.arg}"
+    if isinstance(node, ast.Raise) and node.exc and not isinstance(node.exc, ast.Call):
+        return "an error that isn't made on the spot"
+    if isinstance(node, ast.Div):
+        return "the sign /"
+    if isinstance(node, ast.Constant) and isinstance(node.value, (float, complex)):
+        return "a number with a point"
+    if isinstance(node, ast.Constant) and isinstance(node.value, str) and "%" in node.value:
+        return "the percent sign within a text"
+    if isinstance(node, ast.Compare) and any(isinstance(sign, (ast.Is, ast.IsNot)) for sign in node.ops):
+        beside = node.comparators[-1]
+        if not isinstance(beside, ast.Constant) or beside.value not in (None, True, False):
+            return "is beside another thing"
+    if isinstance(node, ast.Call) and isinstance(node.func, ast.Attribute) and node.func.attr not in methods:
+        return f"the method {node.func.attr}"
+    return None
+
+
+class Form(unittest.TestCase):
+    def test_nothing_else_lies_in_the_package(self):
+        self.assertTrue((PACKAGE / "__init__.py").is_file())
+        for path in PACKAGE.rglob("*"):
+            if "__pycache__" not in path.parts:
+                self.assertRegex(path.name, r"\A([a-z][a-z0-9_]*|__init__|__main__)\.py\Z")
+
+    def test_signs_and_words(self):
+        for path in FILES:
+            self.assertEqual(faults_of_text(path.read_text(encoding="utf-8")), [], path.name)
+
+    def test_the_top_of_each_file(self):
+        for path in FILES:
+            tree = ast.parse(path.read_text(encoding="utf-8"))
+            self.assertEqual([row.lineno for row in tree.body if not is_top_row(row)], [], path.name)
+            names = names_bound_at_top(tree)
+            self.assertEqual(sorted(names), sorted(set(names)), path.name)
+
+    def test_rows_and_expressions(self):
+        trees = {path.name: ast.parse(path.read_text(encoding="utf-8")) for path in FILES}
+        own = {node.name for tree in trees.values() for node in ast.walk(tree) if isinstance(node, ast.FunctionDef)}
+        for name, tree in trees.items():
+            faults = [(getattr(node, "lineno", 0), fault_of(node, METHODS | own)) for node in ast.walk(tree)]
+            self.assertEqual([fault for fault in faults if fault[1]], [], name)
+
+    def test_faults_are_seen(self):
+        for text in (
+            "import os", "from meadshares import *", "from .errors import NoMead", "x: int = 5", "with a: pass",
+            "def f(*a): pass", "def f(**a): pass", "x = 1 / 2", "x = 1.5", "x = (k for k in y)", "x = y is z",
+            "x = eval(y)", "def f(list): pass", "y.format(3)", "raise x", "for k in y:\n    pass\nelse:\n    pass",
+            "class A:\n    x = 1", "@a\ndef f(): pass", "def f():\n    yield 1", "x = y = (z := 3)", "_x = 1", "x = 'a%'",
+        ):
+            self.assertTrue([node for node in ast.walk(ast.parse(text)) if fault_of(node, METHODS)], text)
+        self.assertTrue(faults_of_text("# a " + "ty" + "pe"))
+        self.assertTrue(faults_of_text("x" * 121))
+        self.assertTrue(faults_of_text("\t"))
+
+
+if __name__ == "__main__":
+    unittest.main()
