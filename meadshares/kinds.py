@@ -1,4 +1,4 @@
-"""What is asked of things of any kind, ahead of all that is done with them."""
+"""What is asked of things of any kind, ahead of all that is done with them, and rising tuples."""
 
 
 def is_number(thing):
@@ -20,3 +20,12 @@ def is_tuple_within(thing, least, most):
 def is_rising(things):
     """Whether each of the things, all of one kind, is greater than the one ahead."""
     return all([one < other for one, other in zip(things, things[1:])])
+
+
+def rising_tuples(things):
+    """The rising list of all rising tuples of some of the things, which are rising themselves."""
+    tuples = [()]
+    for thing in reversed(things):
+        # Those that begin with the thing come ahead of those that begin with a later one, () ahead of all.
+        tuples = [()] + [(thing,) + some for some in tuples] + tuples[1:]
+    return tuples

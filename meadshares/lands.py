@@ -2,7 +2,7 @@
 
 from meadshares.errors import NoLand
 from meadshares.kinds import is_rising
-from meadshares.meads import check_mead, is_cell, places_beside, roads_of
+from meadshares.meads import cells_of, check_mead, is_cell, places_beside, roads_of, worth_together
 
 
 def is_land(mead, thing):
@@ -41,19 +41,35 @@ def pieces_of(mead, land):
     return pieces
 
 
+def is_one_piece(land):
+    """Whether the land, which is not looked at first, hangs together."""
+    return land != () and piece_round(land, land[0]) == land
+
+
 def hangs_together(mead, land):
     """Whether the land is one piece."""
-    return len(pieces_of(mead, land)) == 1
+    check_land(mead, land)
+    return is_one_piece(land)
+
+
+def cells_at_road(mead):
+    """The rising list of the mead's cells that are next to a road."""
+    roads = roads_of(mead)
+    return [cell for cell in cells_of(mead) if any([place in roads for place in places_beside(cell)])]
+
+
+def has_some_of(land, cells):
+    """Whether some cell of the land is one of the cells."""
+    return any([cell in cells for cell in land])
 
 
 def at_road(mead, land):
     """Whether some cell of the land is next to a road."""
     check_land(mead, land)
-    roads = roads_of(mead)
-    return any([place in roads for cell in land for place in places_beside(cell)])
+    return has_some_of(land, cells_at_road(mead))
 
 
 def worth_of(mead, land):
     """The sum of the worths of the land's cells."""
     check_land(mead, land)
-    return sum([mead[row][column] for row, column in land])
+    return worth_together(mead, land)

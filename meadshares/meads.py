@@ -69,10 +69,14 @@ def worth_at(mead, place):
     return mead[row][column]
 
 
+def worth_together(mead, places):
+    """The sum of the worths of the cells at the places, of what is not looked at first."""
+    return sum([mead[row][column] for row, column in places])
+
+
 def whole_worth(mead):
     """The sum of the worths of all cells of the mead."""
-    check_mead(mead)
-    return sum([mead[row][column] for row, column in places_of_cells(mead)])
+    return worth_together(mead, cells_of(mead))
 
 
 def places_beside(place):

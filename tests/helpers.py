@@ -1,6 +1,7 @@
-"""What several tests need: things of any kind, meads, and looks at what was handed in."""
+"""What several tests need: things of any kind, meads, pleas, plain searches, and looks at what was handed in."""
 
-from itertools import combinations
+from fractions import Fraction
+from itertools import combinations, product
 
 
 def nested(deep, wrap):
@@ -14,7 +15,8 @@ def nested(deep, wrap):
 SIGNS = "".join(chr(k) for k in range(32, 127) if chr(k) != "%") + "\t\n"
 LARGE = 10 ** 40 - 1
 
-# Things of any kind that are no mead, no row, no place and, but for (), no land.
+# Things of any kind that are no mead, no row, no place, no custom, no claim, no claims, no plea, no parting, no lack
+# and, but for (), no land.
 THINGS = (
     None, True, False,
     LARGE, -LARGE, 10 ** 39, 0, 1, -1, -2, 5,
@@ -27,6 +29,8 @@ THINGS = (
     nested(8, lambda thing: (thing,)), nested(8, lambda thing: [thing]), nested(8, lambda thing: {"a": thing}),
     nested(8, lambda thing: (thing, thing)), nested(8, lambda thing: [thing, {0: thing}]),
 )
+
+OTHER_THAN_NUMBERS = tuple(thing for thing in THINGS if thing.__class__ is not int)
 
 # A road in the middle row, water in two corners, cells on both sides of the road.
 MEAD = (
@@ -55,6 +59,85 @@ TALL = ((5,), (-1,), (0,), (7,))
 
 MEADS = (MEAD, BLOCK, CHESS, RING, ONE, LONG, TALL)
 
+# Two strips with a road between them, worth 40 together.
+STRIPS = (
+    (1, 2, 4, 8),
+    (-1, -1, -1, -1),
+    (16, 3, 0, 6),
+)
+# Ten cells in a block, each at a road.
+TEN = (
+    (-1, -1, -1, -1, -1, -1),
+    (1, 1, 1, 1, 1, -2),
+    (1, 1, 1, 1, 1, -2),
+    (-1, -1, -1, -1, -1, -1),
+)
+CUSTOM = (3, 5, 20)
+CLAIMS = ((0, 0, 2), (0, 2, 1), (1, 1, 4), (3, 0, 20))
+ALIKE = (((0, 0, 1),), ((0, 0, 1), (1, 0, 1)), ((0, 0, 1), (1, 0, 1), (2, 0, 1)),
+         ((0, 0, 1), (1, 0, 1), (2, 0, 1), (3, 0, 1)))
+PLEA = (STRIPS, CUSTOM, CLAIMS, 15)
+
+# Meads of few cells: all tuples of holders for them can be gone through.
+SMALL = (
+    ONE, LONG, TALL, ((4, -1),), ((4, -2),), ((0, -1, 0),), ((0, 0, -1),), ((2, 3, -1), (5, 7, -1)), ((9, -1, 1, 1),),
+    ((1, 2, 3), (-1, -1, 4)), ((0, 0), (-1, 0), (0, 0)), ((1, 1, 1, 1), (-1, -2, -1, -2)), ((50, 1, 1), (-1, -1, -1)),
+    ((10, -1, 10), (10, -1, 10), (1, 1, 1)), ((99, 99, -1, 1, 1),), ((1, 2), (3, -1), (4, 5)),
+)
+SMALL_PLEAS = tuple(
+    (mead, CUSTOM, claims, odd)
+    for mead in SMALL
+    for claims in ALIKE + (CLAIMS, ((2, 1, 7),), ((1, 0, 1), (3, 2, 20)), ((0, 0, 5), (2, 1, 1), (3, 0, 3)))
+    for odd in (0, 1, 2, 5, 30, 999)
+)
+
+
+def plain_due(plea, holder):
+    """The holder's due, as Python's own fraction."""
+    mead, custom, claims, _ = plea
+    count = sum(custom[sort] * many for who, sort, many in claims if who == holder)
+    whole = sum(number for row in mead for number in row if number >= 0)
+    return Fraction(whole * count, sum(custom[sort] * many for _, sort, many in claims))
+
+
+def plain_cells(mead):
+    return [(r, c) for r, row in enumerate(mead) for c, number in enumerate(row) if number >= 0]
+
+
+def plain_holders(claims):
+    return sorted({claim[0] for claim in claims})
+
+
+def are_next(one, other):
+    return abs(one[0] - other[0]) + abs(one[1] - other[1]) == 1
+
+
+def plain_fits(plea, holder, land):
+    """Whether the land fits the holder, told by the words of the document."""
+    mead, odd = plea[0], plea[3]
+    roads = [(r, c) for r, row in enumerate(mead) for c, number in enumerate(row) if number == -1]
+    if not any(are_next(cell, road) for cell in land for road in roads):
+        return False
+    if abs(sum(mead[r][c] for r, c in land) - plain_due(plea, holder)) > odd:
+        return False
+    reached = {land[0]}
+    while True:
+        wider = reached | {cell for cell in land if any(are_next(cell, other) for other in reached)}
+        if wider == reached:
+            return len(reached) == len(land)
+        reached = wider
+
+
+def plain_partings(plea):
+    """The rising list of all partings, found tuple by tuple."""
+    cells, holders = plain_cells(plea[0]), plain_holders(plea[2])
+    fits = {holder: {land for land in all_tuples(cells) if plain_fits(plea, holder, land)} for holder in holders}
+    return [
+        numbers for numbers in product(holders, repeat=len(cells))
+        if all(tuple(cell for cell, number in zip(cells, numbers) if number == holder) in fits[holder]
+               for holder in holders)
+    ]
+
 
 def all_tuples(things):
     """All tuples of some of the things, in their order."""
@@ -76,3 +159,27 @@ def answer_of(ask, *handed):
     if looks(handed) != ahead:
         raise AssertionError(f"{ask.__name__} changed what was handed in: {ahead} became {looks(handed)}")
     return told
+
+
+def faults_of_refusals(ask, good, bad):
+    """What is told, and otherwise than is due, where something that is handed in is none.
+
+    For the first places bad has the class that is due and things that are none; good are things handed in well.
+    """
+    faults = []
+    for at, (due, things) in enumerate(bad):
+        for thing in things:
+            for rest in rests_of(good[at + 1:], bad[at + 1:], thing):
+                handed = good[:at] + (thing,) + rest
+                told = answer_of(ask, *handed)
+                if told is not due:
+                    faults.append((looks(handed), told))
+    return faults
+
+
+def rests_of(good, bad, thing):
+    """What may stand further to the right: all well, each by itself not, none well, the same thing again."""
+    rests = [good, tuple(things[0] for _, things in bad) + good[len(bad):], (thing,) * len(good)]
+    for at, (_, things) in enumerate(bad):
+        rests += [good[:at] + (other,) + good[at + 1:] for other in things[:3]]
+    return rests

@@ -61,6 +61,24 @@ def names_bound_at_top(tree):
     return names
 
 
+def names_drawn_or_classes(tree):
+    drawn = [name.asname or name.name for row in tree.body if isinstance(row, ast.ImportFrom) for name in row.names]
+    return set(drawn + [row.name for row in tree.body if isinstance(row, ast.ClassDef)])
+
+
+def names_within_defs(tree):
+    """The parameters and locals of all defs."""
+    names = set()
+    for row in ast.walk(tree):
+        if isinstance(row, (ast.FunctionDef, ast.Lambda)):
+            for node in ast.walk(row):
+                if isinstance(node, ast.arg):
+                    names.add(node.arg)
+                elif isinstance(node, ast.Name) and isinstance(node.ctx, ast.Store):
+                    names.add(node.id)
+    return names
+
+
 def fault_of_def(node):
     handed = node.args
     if handed.vararg or handed.kwarg or handed.posonlyargs:
@@ -144,6 +162,35 @@ class Form(unittest.TestCase):
         for name, tree in trees.items():
             faults = [(getattr(node, "lineno", 0), fault_of(node, METHODS | own)) for node in ast.walk(tree)]
             self.assertEqual([fault for fault in faults if fault[1]], [], name)
+
+    def test_no_local_is_called_like_an_import_or_a_class(self):
+        for path in FILES:
+            tree = ast.parse(path.read_text(encoding="utf-8"))
+            self.assertEqual(names_within_defs(tree) & names_drawn_or_classes(tree), set(), path.name)
+
+    def test_each_import_is_from_the_file_that_defines_the_name(self):
+        drawn_from = {}
+        for path in FILES:
+            tree = ast.parse(path.read_text(encoding="utf-8"))
+            rows = [row for row in tree.body if isinstance(row, ast.ImportFrom)]
+            drawn_from[path.stem] = {row.module.split(".")[1] for row in rows}
+            for row in rows:
+                there = ast.parse((PACKAGE / (row.module.split(".")[1] + ".py")).read_text(encoding="utf-8"))
+                own = set(names_bound_at_top(there)) - names_drawn_or_classes(there)
+                own |= {node.name for node in there.body if isinstance(node, ast.ClassDef)}
+                self.assertEqual([name.name for name in row.names if name.name not in own], [], path.name)
+        # Files that draw from no file that is left are taken away, till none is left.
+        while drawn_from:
+            free = [name for name in drawn_from if not drawn_from[name] & set(drawn_from)]
+            self.assertNotEqual(free, [], f"in a ring: {sorted(drawn_from)}")
+            drawn_from = {name: drawn for name, drawn in drawn_from.items() if name not in free}
+
+    def test_each_import_is_used(self):
+        for path in FILES:
+            tree = ast.parse(path.read_text(encoding="utf-8"))
+            used = {node.id for node in ast.walk(tree) if isinstance(node, ast.Name)}
+            drawn = [name.name for row in tree.body if isinstance(row, ast.ImportFrom) for name in row.names]
+            self.assertEqual([name for name in drawn if name not in used], [], path.name)
 
     def test_faults_are_seen(self):
         for text in (

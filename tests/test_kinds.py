@@ -2,8 +2,8 @@
 
 import unittest
 
-from meadshares.kinds import is_number, is_number_within, is_rising, is_tuple_within
-from tests.helpers import LARGE, THINGS, answer_of
+from meadshares.kinds import is_number, is_number_within, is_rising, is_tuple_within, rising_tuples
+from tests.helpers import LARGE, THINGS, all_tuples, answer_of, looks
 
 
 class Kinds(unittest.TestCase):
@@ -36,6 +36,13 @@ class Kinds(unittest.TestCase):
             self.assertIs(answer_of(is_rising, things), True)
         for things in ((1, 1), (1, 0), [0, 2, 1], (0, 1, 1), ((0, 0), (0, 0)), ((1, 0), (0, 5)), ((0, 0), (0,))):
             self.assertIs(answer_of(is_rising, things), False)
+
+    def test_rising_tuples(self):
+        self.assertEqual(rising_tuples([]), [()])
+        self.assertEqual(rising_tuples([3]), [(), (3,)])
+        self.assertEqual(rising_tuples([1, 2]), [(), (1,), (1, 2), (2,)])
+        for things in ([0, 1, 2, 3], [(0, 0), (0, 1), (1, 0)], list(range(10))):
+            self.assertEqual(looks(answer_of(rising_tuples, things)), looks(sorted(all_tuples(things))))
 
 
 if __name__ == "__main__":

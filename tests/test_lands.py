@@ -6,7 +6,9 @@ from itertools import permutations
 from meadshares.errors import NoLand, NoMead
 from meadshares.lands import at_road, hangs_together, is_land, pieces_of, worth_of
 from meadshares.meads import cells_of, roads_of
-from tests.helpers import BLOCK, CHESS, LARGE, LONG, MEAD, MEADS, ONE, RING, TALL, THINGS, all_tuples, answer_of, looks
+from tests.helpers import (
+    BLOCK, CHESS, LARGE, LONG, MEAD, MEADS, ONE, RING, TALL, THINGS, all_tuples, answer_of, are_next, looks,
+)
 
 ASKS = (hangs_together, at_road, worth_of, pieces_of)
 # Of BLOCK, whose places go from (0, 0) to (2, 2).
@@ -19,10 +21,6 @@ NO_LANDS_OF_BLOCK = (
     ((0, 0), (0, "1")), ((0, 0), (0, None)), ((0, 0), (0, (1,))), ((0, 0), 1), (1, (0, 0)), {(0, 0): True}, "", None,
 )
 OTHER_THINGS = tuple(thing for thing in THINGS if thing != ())
-
-
-def are_next(one, other):
-    return abs(one[0] - other[0]) + abs(one[1] - other[1]) == 1
 
 
 def merged(land):
