@@ -17,6 +17,11 @@ def is_tuple_within(thing, least, most):
     return isinstance(thing, tuple) and least <= len(thing) <= most
 
 
+def is_pair_of_numbers(thing):
+    """Whether the thing is a tuple of two numbers."""
+    return is_tuple_within(thing, 2, 2) and all([is_number(number) for number in thing])
+
+
 def is_rising(things):
     """Whether each of the things, all of one kind, is greater than the one ahead."""
     return all([one < other for one, other in zip(things, things[1:])])

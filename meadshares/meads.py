@@ -1,7 +1,7 @@
 """Meads: rows of cells, roads and water."""
 
 from meadshares.errors import NoMead, NoPlace
-from meadshares.kinds import is_number, is_number_within, is_tuple_within
+from meadshares.kinds import is_number_within, is_pair_of_numbers, is_tuple_within
 
 MOST_ROWS = 4
 MOST_COLUMNS = 6
@@ -55,9 +55,7 @@ def roads_of(mead):
 def is_cell(mead, thing):
     """Whether the thing, of whatever kind, is the place of a cell of the mead."""
     # (True, 0) equals (1, 0), so the kinds are asked ahead of the places.
-    if not is_tuple_within(thing, 2, 2) or not all([is_number(number) for number in thing]):
-        return False
-    return thing in places_of_cells(mead)
+    return is_pair_of_numbers(thing) and thing in places_of_cells(mead)
 
 
 def worth_at(mead, place):

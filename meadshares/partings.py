@@ -59,47 +59,56 @@ def parting_written(cells, number):
 def with_one_more(ways, holder, lands):
     """The ways to deal some cells, led on by one of the lands for the holder.
 
-    Ways and what is told have, for the marks of the cells dealt, how many ways there are and the least of the numbers
-    that write who has which cell.
+    Ways and what is told have, for the marks of the cells dealt, how many ways there are and the least of all tuples
+    of what a way costs and of the number that writes who has which cell. Lands are tuples of marks and costs.
     """
     led_on = {}
     for dealt in ways:
-        many, least = ways[dealt]
-        for land in lands:
+        many, (cost, number) = ways[dealt]
+        for marks, more in lands:
             # Marks are 0 or 1, so lands with no cell in common have no bit in common.
-            if dealt & land == 0:
-                number = least + holder * land
-                others, least_of_others = led_on.get(dealt + land, (0, number))
-                led_on[dealt + land] = (others + many, min(least_of_others, number))
+            if dealt & marks == 0:
+                way = (cost + more, number + holder * marks)
+                others, least = led_on.get(dealt + marks, (0, way))
+                led_on[dealt + marks] = (others + many, min(least, way))
     return led_on
 
 
-def ways_to_part(cells, fits):
+def ways_to_part(cells, fits, costs):
     """How many ways there are to part the cells so that each holder has one of their lands, and the first one.
 
-    Fits has the lands of each holder. The first is None where there is no way.
+    Fits has the lands of each holder, costs what a land costs, where it isn't 0. The first is the first of all tuples
+    of what the lands cost together and of the parting, None where there is no way.
     """
     # Numbers of as many figures compare as their tuples do; the first way of some cells among some holders goes on
     # to be the first whatever the others have, so no other one needs to be kept.
-    ways = {0: (1, 0)}
+    ways = {0: (1, (0, 0))}
     for holder in fits:
-        ways = with_one_more(ways, holder, [marks_of(cells, land) for land in fits[holder]])
+        ways = with_one_more(ways, holder, [(marks_of(cells, land), costs.get(land, 0)) for land in fits[holder]])
     whole = marks_of(cells, cells)
     if whole not in ways:
         return (0, None)
-    many, least = ways[whole]
-    return (many, parting_written(cells, least))
+    many, (cost, number) = ways[whole]
+    return (many, (cost, parting_written(cells, number)))
+
+
+def first_way(cells, fits):
+    """The first parting of the cells in which each holder has one of their lands in fits, None where there is none."""
+    many, first = ways_to_part(cells, fits, {})
+    if first is None:
+        return None
+    cost, parting = first
+    return parting
 
 
 def first_parting(plea):
     """The first parting, None where there is none."""
     fits = fits_of_all(plea)
-    many, first = ways_to_part(cells_of(plea[0]), fits)
-    return first
+    return first_way(cells_of(plea[0]), fits)
 
 
 def many_partings(plea):
     """How many partings there are."""
     fits = fits_of_all(plea)
-    many, first = ways_to_part(cells_of(plea[0]), fits)
+    many, first = ways_to_part(cells_of(plea[0]), fits, {})
     return many

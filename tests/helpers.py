@@ -1,6 +1,7 @@
 """What several tests need: things of any kind, meads, pleas, plain searches, and looks at what was handed in."""
 
 from fractions import Fraction
+from functools import cache
 from itertools import combinations, product
 
 
@@ -72,11 +73,20 @@ TEN = (
     (1, 1, 1, 1, 1, -2),
     (-1, -1, -1, -1, -1, -1),
 )
+# Ten cells among four: too many tuples to go through.
+TEN_PLEAS = (
+    (TEN, (1,), ((0, 0, 1), (1, 0, 1), (2, 0, 1), (3, 0, 1)), 1),
+    (TEN, (1,), ((0, 0, 3), (1, 0, 3), (2, 0, 2), (3, 0, 2)), 0),
+    (TEN, (1, 2), ((0, 0, 2), (1, 0, 2), (2, 1, 1), (3, 0, 4)), 1),
+)
 CUSTOM = (3, 5, 20)
 CLAIMS = ((0, 0, 2), (0, 2, 1), (1, 1, 4), (3, 0, 20))
 ALIKE = (((0, 0, 1),), ((0, 0, 1), (1, 0, 1)), ((0, 0, 1), (1, 0, 1), (2, 0, 1)),
          ((0, 0, 1), (1, 0, 1), (2, 0, 1), (3, 0, 1)))
 PLEA = (STRIPS, CUSTOM, CLAIMS, 15)
+# Two holders with two to four cells each, in one row along a road.
+ROW = (((2, 2, 2, 2, 2, 2), (-1,) * 6), (1,), ((1, 0, 1), (3, 0, 1)), 2)
+NO_PLEAS = (ROW[:3], list(ROW), ROW + (0,), ROW[:3] + (1000,), ROW[:3] + (True,), [ROW]) + THINGS
 
 # Meads of few cells: all tuples of holders for them can be gone through.
 SMALL = (
@@ -90,6 +100,19 @@ SMALL_PLEAS = tuple(
     for claims in ALIKE + (CLAIMS, ((2, 1, 7),), ((1, 0, 1), (3, 2, 20)), ((0, 0, 5), (2, 1, 1), (3, 0, 3)))
     for odd in (0, 1, 2, 5, 30, 999)
 )
+
+# Some live in the mead, some beside it, some as far out as may be.
+HOUSES = ((0, 0), (-1, 2), (99, -99), (2, 3))
+HOUSES_OF_ALL = (
+    HOUSES, ((0, 0),) * 4, ((-99, -99), (99, 99), (-99, 99), (99, -99)), ((0, 5), (3, 0), (0, 0), (1, 1)),
+    ((0, 3), (0, 2), (0, 1), (0, 0)), ((-4, 1), (2, -7), (1, 1), (5, 9)),
+)
+NO_HOUSES = tuple(
+    HOUSES[:at] + (house,) + HOUSES[at + 1:]
+    for at in range(4)
+    for house in ((100, 0), (0, 100), (-100, 0), (0, -100), (True, 0), (0, False), (0,), (0, 0, 0), (), [0, 0],
+                  ("0", "0"), (0, None), (0, (0,)), 0, None, "00", (LARGE, 0), (0, -LARGE), {0: 0, 1: 0})
+) + (HOUSES[:3], HOUSES + ((0, 0),), list(HOUSES), [list(house) for house in HOUSES], (HOUSES,), HOUSES[0], {})
 
 
 def plain_due(plea, holder):
@@ -128,15 +151,47 @@ def plain_fits(plea, holder, land):
         reached = wider
 
 
+@cache
 def plain_partings(plea):
-    """The rising list of all partings, found tuple by tuple."""
+    """The rising tuple of all partings, found tuple by tuple."""
     cells, holders = plain_cells(plea[0]), plain_holders(plea[2])
     fits = {holder: {land for land in all_tuples(cells) if plain_fits(plea, holder, land)} for holder in holders}
-    return [
+    return tuple(
         numbers for numbers in product(holders, repeat=len(cells))
-        if all(tuple(cell for cell, number in zip(cells, numbers) if number == holder) in fits[holder]
-               for holder in holders)
-    ]
+        if all(plain_land(plea[0], numbers, holder) in fits[holder] for holder in holders)
+    )
+
+
+@cache
+def partings_by_lands(plea):
+    """The rising tuple of all partings, found land by land: for those that are too many to go tuple by tuple."""
+    cells = plain_cells(plea[0])
+    dealt = [{}]
+    for holder in plain_holders(plea[2]):
+        lands = [land for land in all_tuples(cells) if land and plain_fits(plea, holder, land)]
+        dealt = [{**numbers, **dict.fromkeys(land, holder)} for numbers in dealt for land in lands
+                 if not any(cell in numbers for cell in land)]
+    return tuple(sorted(tuple(numbers[cell] for cell in cells) for numbers in dealt if len(numbers) == len(cells)))
+
+
+def plain_land(mead, numbers, holder):
+    """The land of the cells that the holder has."""
+    return tuple(cell for cell, number in zip(plain_cells(mead), numbers) if number == holder)
+
+
+def plain_far(house, land):
+    return min(abs(house[0] - row) + abs(house[1] - column) for row, column in land)
+
+
+def plain_farthest(plea, houses, parting):
+    return max(plain_far(houses[holder], plain_land(plea[0], parting, holder)) for holder in plain_holders(plea[2]))
+
+
+def plain_fences(mead, numbers):
+    """The fences of the mead with these numbers, in whatever order."""
+    dealt = list(zip(plain_cells(mead), numbers))
+    return {(one, other) for one, mine in dealt for other, yours in dealt
+            if one < other and are_next(one, other) and mine != yours}
 
 
 def all_tuples(things):

@@ -2,7 +2,9 @@
 
 import unittest
 
-from meadshares.kinds import is_number, is_number_within, is_rising, is_tuple_within, rising_tuples
+from meadshares.kinds import (
+    is_number, is_number_within, is_pair_of_numbers, is_rising, is_tuple_within, rising_tuples,
+)
 from tests.helpers import LARGE, THINGS, all_tuples, answer_of, looks
 
 
@@ -25,10 +27,16 @@ class Kinds(unittest.TestCase):
         for thing in ([0], "a", {0: 0}, 1, None, True):
             self.assertIs(answer_of(is_tuple_within, thing, 1, 2), False)
 
+    def test_a_pair_of_numbers(self):
+        for thing in ((0, 0), (-1, 5), (LARGE, -LARGE)):
+            self.assertIs(is_pair_of_numbers(thing), True)
+        for thing in ((), (0,), (0, 0, 0), [0, 0], (True, 0), (0, False), (0, None), ("0", 0), (0, (0,)), "00", 0, None):
+            self.assertIs(answer_of(is_pair_of_numbers, thing), False)
+
     def test_things_of_any_kind_are_answered_with_a_truth(self):
         for thing in THINGS:
             for told in (answer_of(is_number, thing), answer_of(is_number_within, thing, 0, 9),
-                         answer_of(is_tuple_within, thing, 0, 9)):
+                         answer_of(is_tuple_within, thing, 0, 9), answer_of(is_pair_of_numbers, thing)):
                 self.assertIn(told.__class__, (bool,))
 
     def test_rising(self):

@@ -7,14 +7,12 @@ from itertools import product
 from meadshares.errors import NoHolder, NoParting, NoPlea
 from meadshares.partings import first_parting, is_parting, land_of, many_partings
 from tests.helpers import (
-    ALIKE, BLOCK, CHESS, CUSTOM, LARGE, OTHER_THAN_NUMBERS, SMALL_PLEAS, STRIPS, TEN, THINGS, answer_of,
-    faults_of_refusals, looks, plain_cells, plain_holders, plain_partings,
+    ALIKE, BLOCK, CHESS, CUSTOM, LARGE, NO_PLEAS, OTHER_THAN_NUMBERS, ROW, SMALL_PLEAS, STRIPS, TEN, THINGS, answer_of,
+    faults_of_refusals, looks, plain_cells, plain_holders, plain_land, plain_partings,
 )
 
 # The due is 20 each, and 18 to 22 fit: 16 + 3 + 0 and what is left are 19 and 21, 16 and what is left lie apart.
 NEAR = (((1, 2, 4, 8), (-1, -1, -1, 6), (16, 3, 0, -2)), (1,), ALIKE[1], 2)
-# Each holder has two or three cells in a row.
-ROW = (((2, 2, 2, 2, 2, 2), (-1,) * 6), (1,), ((1, 0, 1), (3, 0, 1)), 2)
 FIRST_OF_ROW = (1, 1, 3, 3, 3, 3)
 
 
@@ -91,9 +89,8 @@ class LandOf(unittest.TestCase):
         for plea in SMALL_PLEAS:
             parting = first_parting(plea)
             if parting is not None:
-                cells = plain_cells(plea[0])
                 for holder in plain_holders(plea[2]):
-                    land = tuple(cell for cell, number in zip(cells, parting) if number == holder)
+                    land = plain_land(plea[0], parting, holder)
                     self.assertEqual(looks(land_of(plea, parting, holder)), looks(land))
 
 
@@ -154,7 +151,7 @@ class FirstAndMany(unittest.TestCase):
 
 
 class Refusals(unittest.TestCase):
-    bad_pleas = (NoPlea, (ROW[:3], list(ROW), ROW + (0,), ROW[:3] + (1000,), ROW[:3] + (True,), [ROW]) + THINGS)
+    bad_pleas = (NoPlea, NO_PLEAS)
     bad_partings = (NoParting, (
         (1, 3, 3, 3, 3, 3), (1,) * 6, FIRST_OF_ROW[1:], FIRST_OF_ROW + (3,), list(FIRST_OF_ROW), [FIRST_OF_ROW],
         (True, True, 3, 3, 3, 3), (0, 0, 3, 3, 3, 3), (1, 1, 3, 3, 3, LARGE), None,
