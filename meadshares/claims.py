@@ -77,6 +77,14 @@ def check_holder(claims, holder):
         raise NoHolder("no holder of the claims")
 
 
+def check_two_holders(claims, one, other):
+    """Refuse what is no holder of the claims, then one holder who is named twice."""
+    check_holder(claims, one)
+    check_holder(claims, other)
+    if one == other:
+        raise NoHolder("the two holders are one")
+
+
 def holders_of(claims):
     """The rising list of the holders that have a claim."""
     check_claims(claims)
@@ -139,10 +147,7 @@ def rights_of(claims, holders, sort):
 def joined(claims, one, other):
     """The claims in which all rights of the other holder are the one's."""
     check_claims(claims)
-    check_holder(claims, one)
-    check_holder(claims, other)
-    if one == other:
-        raise NoHolder("the two holders are one")
+    check_two_holders(claims, one, other)
     sums = [(one, sort, rights_of(claims, (one, other), sort)) for sort in range(MOST_SORTS)]
     for holder, sort, many in sums:
         if many > MOST_RIGHTS:

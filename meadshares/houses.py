@@ -1,11 +1,11 @@
 """Houses: how far each holder has to go to their land, and partings in which nobody has far."""
 
-from meadshares.claims import MOST_HOLDERS, holders_of
+from meadshares.claims import MOST_HOLDERS, check_holder, holders_of
 from meadshares.errors import NoHouses, NoNumber
 from meadshares.kinds import is_number_within, is_tuple_within
 from meadshares.lands import has_some_of
 from meadshares.meads import cells_of
-from meadshares.partings import first_way, land_of
+from meadshares.partings import check_parting, first_way, land_within
 from meadshares.pleas import check_plea, fits_of_all
 
 FARTHEST_OUT = 99
@@ -41,23 +41,30 @@ def far_between(place, other):
     return abs(place[0] - other[0]) + abs(place[1] - other[1])
 
 
-def far_to(place, land):
-    """How far it is from the place to the land, which isn't ()."""
-    return min([far_between(place, cell) for cell in land])
+def far_with(mead, houses, numbers, holder):
+    """How far the holder has to the land of all cells with their number, of what is not looked at first."""
+    return min([far_between(houses[holder], cell) for cell in land_within(mead, numbers, holder)])
+
+
+def check_parted(plea, houses, parting):
+    """Refuse what is no plea, then what are no houses, then what is no parting of the plea."""
+    check_plea_and_houses(plea, houses)
+    check_parting(plea, parting)
 
 
 def far_of(plea, houses, parting, holder):
     """How far the holder has to their land in the parting."""
-    check_plea_and_houses(plea, houses)
-    land = land_of(plea, parting, holder)
-    return far_to(houses[holder], land)
+    check_parted(plea, houses, parting)
+    mead, custom, claims, odd = plea
+    check_holder(claims, holder)
+    return far_with(mead, houses, parting, holder)
 
 
 def farthest_of(plea, houses, parting):
     """The farthest that some holder has to their land in the parting."""
-    check_plea(plea)
+    check_parted(plea, houses, parting)
     mead, custom, claims, odd = plea
-    return max([far_of(plea, houses, parting, holder) for holder in holders_of(claims)])
+    return max([far_with(mead, houses, parting, holder) for holder in holders_of(claims)])
 
 
 def fits_within(cells, fits, houses, number):

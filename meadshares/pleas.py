@@ -1,7 +1,7 @@
 """Pleas: a mead, the claims on it, and the lands that fit each holder."""
 
 from meadshares.claims import are_claims, check_holder, fraction, holders_of, is_custom, share_of, stand_under
-from meadshares.errors import NoPlea
+from meadshares.errors import NoOdd, NoPlea
 from meadshares.kinds import is_number_within, is_tuple_within, rising_tuples
 from meadshares.lands import cells_at_road, check_land, has_some_of, is_one_piece
 from meadshares.meads import cells_of, is_mead, whole_worth, worth_together
@@ -12,6 +12,12 @@ MOST_ODD = 999
 def is_odd(thing):
     """Whether the thing, of whatever kind, is a number that may be an odd."""
     return is_number_within(thing, 0, MOST_ODD)
+
+
+def check_odd(odd):
+    """Refuse what is no odd."""
+    if not is_odd(odd):
+        raise NoOdd("no odd from 0 to 999")
 
 
 def is_plea(thing):

@@ -163,6 +163,26 @@ class Form(unittest.TestCase):
             faults = [(getattr(node, "lineno", 0), fault_of(node, METHODS | own)) for node in ast.walk(tree)]
             self.assertEqual([fault for fault in faults if fault[1]], [], name)
 
+    def test_values_of_objects(self):
+        nodes = [node for path in FILES for node in ast.walk(ast.parse(path.read_text(encoding="utf-8")))]
+        methods = {row.name for node in nodes if isinstance(node, ast.ClassDef) for row in node.body
+                   if isinstance(row, ast.FunctionDef)}
+        values = [node for node in nodes if isinstance(node, ast.Attribute)]
+        given = {node.attr for node in values if isinstance(node.ctx, ast.Store)}
+        called = {id(node.func) for node in nodes if isinstance(node, ast.Call)}
+        asked = {node.attr for node in values if isinstance(node.ctx, ast.Load) and id(node) not in called}
+        own_to_python = {name for kind in (str, int, list, dict, set, bytes, tuple) for name in dir(kind)}
+        self.assertEqual(given & methods, set())
+        self.assertEqual(asked - given, set())
+        self.assertEqual((given | methods) & own_to_python, {"__init__"})
+
+    def test_lists_and_dicts_of_the_top_hold_no_others(self):
+        for path in FILES:
+            for row in ast.parse(path.read_text(encoding="utf-8")).body:
+                if isinstance(row, ast.Assign):
+                    kept = [node for node in ast.walk(row.value) if isinstance(node, (ast.List, ast.Dict, ast.Set))]
+                    self.assertLessEqual(len(kept), 1, (path.name, row.lineno))
+
     def test_no_local_is_called_like_an_import_or_a_class(self):
         for path in FILES:
             tree = ast.parse(path.read_text(encoding="utf-8"))
@@ -197,7 +217,8 @@ class Form(unittest.TestCase):
             "import os", "from meadshares import *", "from .errors import NoMead", "x: int = 5", "with a: pass",
             "def f(*a): pass", "def f(**a): pass", "x = 1 / 2", "x = 1.5", "x = (k for k in y)", "x = y is z",
             "x = eval(y)", "def f(list): pass", "y.format(3)", "raise x", "for k in y:\n    pass\nelse:\n    pass",
-            "class A:\n    x = 1", "@a\ndef f(): pass", "def f():\n    yield 1", "x = y = (z := 3)", "_x = 1", "x = 'a%'",
+            "class A:\n    x = 1", "@a\ndef f(): pass", "def f():\n    yield 1", "x = y = (z := 3)", "_x = 1",
+            "x = 'a%'",
         ):
             self.assertTrue([node for node in ast.walk(ast.parse(text)) if fault_of(node, METHODS)], text)
         self.assertTrue(faults_of_text("# a " + "ty" + "pe"))

@@ -30,7 +30,7 @@ class Kinds(unittest.TestCase):
     def test_a_pair_of_numbers(self):
         for thing in ((0, 0), (-1, 5), (LARGE, -LARGE)):
             self.assertIs(is_pair_of_numbers(thing), True)
-        for thing in ((), (0,), (0, 0, 0), [0, 0], (True, 0), (0, False), (0, None), ("0", 0), (0, (0,)), "00", 0, None):
+        for thing in ((), (0,), (0, 0, 0), [0, 0], (True, 0), (0, False), (0, None), ("0", 0), (0, (0,)), "00", 0):
             self.assertIs(answer_of(is_pair_of_numbers, thing), False)
 
     def test_things_of_any_kind_are_answered_with_a_truth(self):

@@ -122,7 +122,8 @@ class HowLandsLie(unittest.TestCase):
     def test_corners_alone(self):
         self.assertIs(hangs_together(BLOCK, ((0, 0), (1, 1))), False)
         self.assertIs(hangs_together(BLOCK, ((0, 1), (1, 0))), False)
-        self.assertEqual(pieces_of(BLOCK, ((0, 1), (1, 0), (1, 2), (2, 1))), [((0, 1),), ((1, 0),), ((1, 2),), ((2, 1),)])
+        apart = ((0, 1), (1, 0), (1, 2), (2, 1))
+        self.assertEqual(pieces_of(BLOCK, apart), [(cell,) for cell in apart])
         self.assertEqual(pieces_of(CHESS, tuple(cells_of(CHESS))), [(cell,) for cell in cells_of(CHESS)])
 
     def test_the_ends_of_rows_are_not_next_to_one_another(self):
