@@ -16,8 +16,9 @@ FIRST_HOUSES = ((0, 0), (0, 0), (0, 0), (0, 0))
 
 def words_of(line):
     """The words of the line, refused where it is none."""
-    if not isinstance(line, str) or "\t" in line or "\n" in line:
+    if not isinstance(line, str):
         raise NoLine("no text of words with blanks between them")
+    # The blank alone stands between words: a tab or a line feed is a sign of the word that it stands in.
     words = line.split(" ")
     if "" in words or words[0] not in WORDS_BEHIND or len(words) != WORDS_BEHIND[words[0]] + 1:
         raise NoLine("no such line")

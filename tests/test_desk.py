@@ -45,18 +45,33 @@ def told_by(desk):
 
 
 def otherwise(line):
-    """Lines that differ from a line in their form: a word more or less, blanks, tabs, line feeds."""
+    """Lines that differ from a line in their form: a word more or less, blanks elsewhere, another first word."""
     words = line.split(" ")
-    yield from (line + " 0", line + " x", line + " ", " " + line, line + "\n", "\n" + line, line + "\t", "\t" + line)
+    yield from (line + " 0", line + " x", line + " ", " " + line, "\n" + line, "\t" + line)
+    for sign in "\t\n":
+        yield " ".join([words[0] + sign] + words[1:])
+        yield " ".join([words[0][:1] + sign + words[0][1:]] + words[1:])
+        yield " ".join([sign] + words[1:])
     yield from (line.upper(), line.title(), "x" + line, line + "x" if len(words) == 1 else "", words[0] + "x 0 0 0")
     yield from (line.replace(" ", "\t"), line.replace(" ", "\n"), line.replace(" ", "  ")) if len(words) > 1 else ()
     for at in range(1, len(words)):
         ahead, behind = " ".join(words[:at]), " ".join(words[at:])
-        for between in ("  ", "\t", "\n", ",", "", " \t", "\t ", " \n", "\n "):
+        for between in ("  ", "\t", "\n", ",", "", " \t ", " \n "):
             yield ahead + between + behind
         yield from (ahead, behind, " ".join(words[:at] + words[at + 1:]), f"{ahead} {words[at]} {behind}")
         # As many words, but one of them without a sign: two blanks stand together, or one at the end.
         yield " ".join(words[:at] + [""] + words[at + 1:])
+
+
+def with_tabs_and_feeds(line):
+    """Tuples (at, line): the line with a tab or a line feed at each place of the word `at` behind the first one."""
+    words = line.split(" ")
+    for at in range(1, len(words)):
+        word = words[at]
+        for sign in "\t\n":
+            others = [word[:cut] + sign + word[cut:] for cut in range(len(word) + 1)]
+            for other in others + [sign, sign + sign, sign + word + sign]:
+                yield at, " ".join(words[:at] + [other] + words[at + 1:])
 
 
 class NewDesk(unittest.TestCase):
@@ -137,6 +152,47 @@ class NoLines(unittest.TestCase):
                 self.assertIs(answer_of(desk.say, "part" + sign), NoLine, looks(sign))
                 self.assertIs(answer_of(desk.say, sign + "claims"), NoLine, looks(sign))
             self.assertEqual(told_by(desk), ahead)
+
+
+class TabsAndLineFeeds(unittest.TestCase):
+    """The blank alone stands between words: a tab or a line feed belongs to the word that it stands in."""
+
+    def due_of(self, line, at):
+        return NoCustom if line.startswith("mead ") and at == 3 else NoText
+
+    def test_a_word_that_is_no_number(self):
+        seen = 0
+        desk = parted_desk()
+        ahead = told_by(desk)
+        for line in LINES:
+            for at, asked in with_tabs_and_feeds(line):
+                self.assertIs(answer_of(desk.say, asked), self.due_of(line, at), looks(asked))
+                self.assertEqual(told_by(desk), ahead)
+                seen += 1
+        self.assertGreater(seen, 200)
+        # None of them was a deed: what is undone is `part`.
+        self.assertEqual([desk.say("undo"), desk.say("parting")], ["ok", "none"])
+
+    def test_no_book_ahead_of_it(self):
+        for line in LINES:
+            for at, asked in with_tabs_and_feeds(line):
+                desk = Desk()
+                due = self.due_of(line, at) if line == OPEN else NoBook
+                self.assertIs(answer_of(desk.say, asked), due, looks(asked))
+                self.assertIs(answer_of(desk.say, "claims"), NoBook)
+
+    def test_no_line_ahead_of_it(self):
+        for desk in (Desk(), parted_desk()):
+            for asked in ("land 1\n 0", "land  1\n", "land 1\n ", " land 1\n", "lay 0\t 0", "lay 0\t0 1", "part \n",
+                          "claims \t", "mead 5,-1 0\n1", "mead 5,-1\n0 1", "mead 5,-1 0 1 \n", "x 1\n"):
+                self.assertIs(answer_of(desk.say, asked), NoLine, looks(asked))
+
+    def test_no_text_ahead_of_what_the_book_refuses(self):
+        desk = parted_desk()
+        for asked in ("lay 9 0 1\n", "lay 9\t 0 1", "deny 9 9 9\n", "merge 0 \t0", "swap 9 9\n", "land 9\n",
+                      "bounds \t9", "share 9\t", "houses 100 0 0 0 0 0 0 0\n", "mead 5,-1 1000\n 1", "mead 5,-1 \t1 0",
+                      "mead 5,-1\n 1 x", "mead 5,-1 1\n 1\n", "mead 5\t,-1 1 1\t"):
+            self.assertIs(answer_of(desk.say, asked), NoText, looks(asked))
 
 
 class Mead(unittest.TestCase):
